@@ -538,6 +538,43 @@ func TestThenLong(t *testing.T) {
 	}
 }
 
+// followed is what Then must answer: of each place of p those that tell it get what it has.
+func followed(first, p []int) []int {
+	out := same(len(first), -1)
+	for place, has := range p {
+		for doc, told := range first {
+			if told == place {
+				out[doc] = has
+			}
+		}
+	}
+	return out
+}
+
+// P10.3: all short tables, with few places, and longer ones that happen to be, tell what the words say.
+func TestThenOfAll(t *testing.T) {
+	for code := range 6 * 6 * 6 {
+		first := []int{code%6 - 2, code/6%6 - 2, code/36 - 2}
+		for long := range 4 {
+			for _, p := range [][]int{{7, 8, 9}, {2, 0, 1}, {-1, 1, -2}, {0, 0, 0}} {
+				wantThen(t, first, p[:long], followed(first, p[:long])...)
+				wantThen(t, first[:long], p, followed(first[:long], p)...)
+			}
+		}
+	}
+	dice := rand.New(rand.NewSource(15))
+	for range 1000 {
+		first, p := make([]int, dice.Intn(70)), make([]int, dice.Intn(70))
+		for i := range first {
+			first[i] = dice.Intn(80) - 5
+		}
+		for i := range p {
+			p[i] = dice.Intn(80) - 5
+		}
+		wantThen(t, first, p, followed(first, p)...)
+	}
+}
+
 // P10.1, P10.3: a table, and behind it an order that is turned, tell where each that lives stands when all are put in order.
 func TestTableThenOrder(t *testing.T) {
 	for _, l := range lists() {
